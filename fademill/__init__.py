@@ -1,0 +1,1 @@
+"""Fademill: programs on a machine whose cells fade."""

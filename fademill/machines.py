@@ -1,0 +1,59 @@
+"""The machine: what each deed makes of the lives of its cells.
+
+The functions whose names begin with lives take values that are as they must be.
+"""
+
+from fademill.checks import check_cell, check_lives, check_machine
+
+
+def lives_waited(lives):
+    return tuple([life - 1 if life > 0 else 0 for life in lives])
+
+
+def lives_touched(machine, lives, cell):
+    fades, rows = machine
+    row = rows[cell]
+    behind = []
+    for at, life in enumerate(lives):
+        if life == 0:
+            behind.append(0)
+        elif rows[at] == row:
+            behind.append(fades[at])
+        else:
+            behind.append(life - 1)
+    return tuple(behind)
+
+
+def lives_set(machine, lives, cell):
+    behind = list(lives_touched(machine, lives, cell))
+    behind[cell] = machine[0][cell]
+    return tuple(behind)
+
+
+def first_cells(machine):
+    """The first cell of each row: a touch of it stands for a touch of any cell of the row."""
+    rows = machine[1]
+    return tuple([rows.index(row) for row in range(max(rows) + 1)])
+
+
+def behind_touch(machine, lives, cell):
+    """The lives at the next tick if a cell is touched."""
+    check_machine(machine)
+    check_lives(machine, lives)
+    check_cell(machine, cell)
+    return lives_touched(machine, lives, cell)
+
+
+def behind_set(machine, lives, cell):
+    """The lives at the next tick if a cell is set."""
+    check_machine(machine)
+    check_lives(machine, lives)
+    check_cell(machine, cell)
+    return lives_set(machine, lives, cell)
+
+
+def behind_wait(machine, lives):
+    """The lives at the next tick if no cell is touched."""
+    check_machine(machine)
+    check_lives(machine, lives)
+    return lives_waited(lives)
