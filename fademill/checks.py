@@ -1,12 +1,13 @@
 """What arguments must be: each check raises the error that the document names."""
 
-from fademill.errors import BadCell, BadInputs, BadLives, BadMachine, BadNumber, BadProgram
+from fademill.errors import BadCell, BadInputs, BadLives, BadMachine, BadNumber, BadOrder, BadProgram
 
 MOST_CELLS = 4
 MOST_FADE = 8
 MOST_INSTRUCTIONS = 20
 MOST_KEPT = 4000
 MOST_INPUTS = 50
+MOST_DEEDS = 400
 MILLION = 1000000
 ALONE = ("say", "ask", "stop")
 WITH_CELL = ("get", "plus", "minus", "set")
@@ -68,6 +69,28 @@ def check_lives(machine, value):
 def check_cell(machine, value):
     if not is_integer(value, 0, len(machine[0]) - 1):
         raise BadCell("no cell of the machine")
+
+
+def check_lot(machine, value):
+    """A lot is an ascending tuple of at least one cell."""
+    if not isinstance(value, tuple) or value == ():
+        raise BadCell("no tuple of cells")
+    before = -1
+    for cell in value:
+        check_cell(machine, cell)
+        if cell <= before:
+            raise BadCell("not ascending")
+        before = cell
+
+
+def check_order(machine, value):
+    cells = len(machine[0])
+    if not isinstance(value, tuple) or len(value) != cells:
+        raise BadOrder("not as many as cells")
+    if not all([is_integer(cell, 0, cells - 1) for cell in value]):
+        raise BadOrder("no cell of the machine")
+    if sorted(value) != list(range(cells)):
+        raise BadOrder("a cell twice")
 
 
 def is_instruction(cells, length, value):

@@ -36,6 +36,14 @@ def first_cells(machine):
     return tuple([rows.index(row) for row in range(max(rows) + 1)])
 
 
+def renumbered(rows):
+    """Rows numbered anew, as cells name them first."""
+    numbers = {}
+    for row in rows:
+        numbers.setdefault(row, len(numbers))
+    return tuple([numbers[row] for row in rows])
+
+
 def behind_touch(machine, lives, cell):
     """The lives at the next tick if a cell is touched."""
     check_machine(machine)

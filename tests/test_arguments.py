@@ -5,11 +5,18 @@ import unittest
 
 from fademill import errors
 from fademill.books import can_be_kept, moments, rank
+from fademill.dooms import doom, shows_doom
 from fademill.machines import behind_set, behind_touch, behind_wait
 from fademill.needs import needed
+from fademill.orders import best_order, called, orders_kept
+from fademill.papers import share_paper, shows_share
+from fademill.pauses import longest_pause, lost_by
 from fademill.programs import may_go_on, reached
+from fademill.rounds import endless, keeps, load, longest
 from fademill.runs import run_fading, run_lasting
+from fademill.shares import kept_best, share
 from fademill.walks import carries, fault
+from fademill.writing import kept
 from tests import junk
 
 MACHINE = (junk.MACHINE, errors.BadMachine)
@@ -20,6 +27,10 @@ PROGRAM = (junk.PROGRAM, errors.BadProgram)
 KEPT = ((("touch", 1),) + junk.PROGRAM, errors.BadProgram)
 INPUTS = ((4, -4), errors.BadInputs)
 NUMBER = (2, errors.BadNumber)
+LOT = ((0, 1), errors.BadCell)
+ORDER = ((1, 0), errors.BadOrder)
+# Any value will do, and none raises an error.
+ANY = ((0, 1), None)
 
 FUNCTIONS = (
     (behind_touch, (MACHINE, LIVES, CELL)),
@@ -35,7 +46,25 @@ FUNCTIONS = (
     (rank, (MACHINE, PROGRAM)),
     (moments, (MACHINE, PROGRAM)),
     (can_be_kept, (MACHINE, PROGRAM)),
+    (kept, (MACHINE, PROGRAM)),
+    (doom, (MACHINE, PROGRAM)),
+    (shows_doom, (MACHINE, PROGRAM, ANY)),
+    (share, (MACHINE, PROGRAM)),
+    (kept_best, (MACHINE, PROGRAM)),
+    (share_paper, (MACHINE, PROGRAM)),
+    (shows_share, (MACHINE, PROGRAM, ANY)),
+    (endless, (MACHINE, LOT)),
+    (keeps, (MACHINE, LOT, ANY, ANY)),
+    (longest, (MACHINE, LOT)),
+    (load, (MACHINE, LOT)),
+    (lost_by, (MACHINE, PROGRAM, KEPT, NUMBER)),
+    (longest_pause, (MACHINE, PROGRAM, KEPT)),
+    (called, (MACHINE, PROGRAM, ORDER)),
+    (orders_kept, (MACHINE, PROGRAM)),
+    (best_order, (MACHINE, PROGRAM)),
 )
+OF_BOOKS = (rank, moments, can_be_kept, kept, doom, shows_doom, share, kept_best, share_paper, shows_share, orders_kept,
+            best_order)
 NEVER_GOOD = tuple(value for value in junk.VALUES if value not in ((), (1, 2, 3)))
 
 
@@ -53,6 +82,10 @@ class Arguments(unittest.TestCase):
                     for rest in ([value] * (len(arguments) - at - 1), [good for good, _ in arguments[at + 1:]]):
                         passed = good + [value] + rest
                         before = copy.deepcopy(passed)
+                        if wanted is None:
+                            self.assertIs(function(*passed).__class__, bool)
+                            self.assertEqual(passed, before)
+                            continue
                         with self.assertRaises(errors.MillError, msg=(function.__name__, passed)) as caught:
                             function(*passed)
                         self.assertIs(caught.exception.__class__, wanted, (function.__name__, passed))
@@ -73,9 +106,9 @@ class Arguments(unittest.TestCase):
                     self.assertEqual(caught.exception.part, part)
 
     def test_too_many_comes_behind_all_others(self):
-        machine = ((8, 8, 8, 8), (0, 1, 2, 3))
-        program = (("say",),) * 16 + tuple(("get", cell) for cell in range(4))
-        for function in (rank, moments, can_be_kept):
-            self.assertRaises(errors.TooMany, function, machine, program)
-            self.assertRaises(errors.BadProgram, function, machine, program[:-1] + (("get", 4),))
-            self.assertRaises(errors.BadMachine, function, (machine[0], (0, 1, 2)), program)
+        machine, program = junk.TOO_WIDE
+        for function in OF_BOOKS:
+            rest = [None] if function in (shows_doom, shows_share) else []
+            self.assertRaises(errors.TooMany, function, machine, program, *rest)
+            self.assertRaises(errors.BadProgram, function, machine, program[:-1] + (("get", 4),), *rest)
+            self.assertRaises(errors.BadMachine, function, (machine[0], (0, 1, 2)), program, *rest)

@@ -3,11 +3,16 @@
 import unittest
 
 from fademill.books import can_be_kept, rank
-from fademill.errors import BadMachine
+from fademill.errors import BadMachine, NoWay
 from fademill.machines import behind_set, behind_touch, behind_wait
 from fademill.needs import needed
+from fademill.orders import best_order
+from fademill.pauses import longest_pause, lost_by
+from fademill.rounds import endless, load, longest
 from fademill.runs import run_fading, run_lasting
+from fademill.shares import share
 from fademill.walks import carries, fault
+from fademill.writing import kept
 
 
 class Examples(unittest.TestCase):
@@ -39,3 +44,23 @@ class Examples(unittest.TestCase):
         two = (("get", 0), ("get", 1), ("go", 0))
         self.assertEqual([can_be_kept(((2, 2), (0, 1)), two), can_be_kept(((1, 2), (0, 1)), two),
                           rank(((1, 2), (0, 1)), two)], [True, False, 2])
+
+    def test_writing(self):
+        self.assertRaises(NoWay, kept, ((1,), (0,)), (("say",), ("say",), ("get", 0)))
+
+    def test_shares(self):
+        self.assertEqual([share(((3,), (0,)), (("say",), ("zero", 0), ("get", 0), ("go", 0))),
+                          share(((2, 2), (0, 1)), (("get", 0), ("get", 1), ("go", 0))), share(((1,), (0,)), (("get", 0),))],
+                         [(2, 3), (1, 1), None])
+
+    def test_rounds(self):
+        self.assertEqual([endless(((2, 4), (0, 1)), (0, 1))[2], longest(((1, 3), (0, 1)), (0, 1)),
+                          load(((2, 4), (0, 1)), (0, 1))], [(1, 4), (2, (0, 0)), (3, 4)])
+
+    def test_pauses(self):
+        program = (("say",), ("get", 0))
+        self.assertEqual([longest_pause(((4,), (0,)), program, program), lost_by(((4,), (0,)), program, program, 3)],
+                         [2, (0, 1)])
+
+    def test_orders(self):
+        self.assertEqual(best_order(((1, 4), (0, 1)), (("get", 0), ("say",), ("go", 0))), ((1, 0), (1, 1)))

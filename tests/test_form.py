@@ -194,7 +194,10 @@ class Interface(unittest.TestCase):
     def test_each_function_is_defined_where_the_document_lists_it(self):
         listed = {"machines": ("behind_touch", "behind_set", "behind_wait"), "programs": ("reached", "may_go_on"),
                   "runs": ("run_lasting", "run_fading"), "needs": ("needed",), "walks": ("fault", "carries"),
-                  "books": ("rank", "moments", "can_be_kept")}
+                  "books": ("rank", "moments", "can_be_kept"), "writing": ("kept",), "dooms": ("doom", "shows_doom"),
+                  "shares": ("share", "kept_best"), "papers": ("share_paper", "shows_share"),
+                  "rounds": ("endless", "keeps", "longest", "load"), "pauses": ("lost_by", "longest_pause"),
+                  "orders": ("called", "orders_kept", "best_order")}
         for stem, names in listed.items():
             defined = [node.name for node in TREES[stem].body if isinstance(node, ast.FunctionDef)]
             for name in names:
@@ -205,7 +208,13 @@ class Interface(unittest.TestCase):
                   "reached": "cells program", "may_go_on": "cells program", "needed": "cells program index",
                   "run_lasting": "cells program inputs most", "run_fading": "machine program inputs most",
                   "fault": "machine program kept", "carries": "machine program kept", "rank": "machine program",
-                  "moments": "machine program", "can_be_kept": "machine program"}
+                  "moments": "machine program", "can_be_kept": "machine program", "kept": "machine program",
+                  "doom": "machine program", "shows_doom": "machine program value", "share": "machine program",
+                  "kept_best": "machine program", "share_paper": "machine program", "shows_share": "machine program value",
+                  "endless": "machine cells", "keeps": "machine cells lead ring", "longest": "machine cells",
+                  "load": "machine cells", "lost_by": "machine program kept ticks",
+                  "longest_pause": "machine program kept", "called": "machine program order",
+                  "orders_kept": "machine program", "best_order": "machine program"}
         found = {node.name: " ".join(arg.arg for arg in node.args.args)
                  for tree in TREES.values() for node in tree.body if isinstance(node, ast.FunctionDef)}
         self.assertEqual({name: found[name] for name in listed}, listed)
