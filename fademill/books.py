@@ -71,10 +71,12 @@ class Dooming:
 
     safe tells for each moment whether its instruction is no loss and leads to no moment
     that was found doomed. Touches stay at one instruction, so only the moments of
-    instructions at which something became unsafe are looked at again.
+    instructions at which something became unsafe are looked at again. most is how many
+    touches may be done ahead of an instruction, None if any number may.
     """
 
-    def __init__(self, book):
+    def __init__(self, book, most):
+        self.most = most
         self.ranks = [None] * len(book.moments)
         self.safe = [targets is not None for targets in book.steps]
         self.before_touches = reversed_links(book.touches)
@@ -84,16 +86,25 @@ class Dooming:
         for number, at in enumerate(self.spots):
             self.by_spot.setdefault(at, []).append(number)
 
-    def fallen(self, at):
-        """The moments of an instruction, not yet doomed, from which no touches lead to a safe one."""
+    def hopeful_ones(self, at):
+        """The moments of an instruction from which touches, no more than may be done, lead to a safe one."""
         hopeful = {number: True for number in self.by_spot[at] if self.safe[number]}
-        open_ones = list(hopeful)
-        while open_ones:
-            number = open_ones.pop()
-            for source in self.before_touches[number]:
-                if source not in hopeful:
-                    hopeful[source] = True
-                    open_ones.append(source)
+        layer = list(hopeful)
+        length = 0
+        while layer and length != self.most:
+            following = []
+            for number in layer:
+                for source in self.before_touches[number]:
+                    if source not in hopeful:
+                        hopeful[source] = True
+                        following.append(source)
+            layer = following
+            length += 1
+        return hopeful
+
+    def fallen(self, at):
+        """The moments of an instruction, not yet doomed, from which no such touches lead to a safe one."""
+        hopeful = self.hopeful_ones(at)
         doomed = [number for number in self.by_spot[at] if number not in hopeful]
         # What is left out here need never be looked at again.
         self.by_spot[at] = [number for number in self.by_spot[at] if number in hopeful]
@@ -127,7 +138,7 @@ def book_of(machine, program):
     """The whole book of a program on a machine, both as they must be."""
     book = Book(machine, program)
     book.find_moments()
-    book.ranks = Dooming(book).find_ranks()
+    book.ranks = Dooming(book, None).find_ranks()
     return book
 
 

@@ -1,22 +1,34 @@
 """What arguments must be: each check raises the error that the document names."""
 
-from fademill.errors import BadCell, BadInputs, BadLives, BadMachine, BadNumber, BadOrder, BadProgram
+from fademill.errors import BadCell, BadInputs, BadLives, BadMachine, BadNumber, BadOrder, BadProgram, BadString
 
 MOST_CELLS = 4
+MOST_CELLS_OF_ROWS = 3
 MOST_FADE = 8
 MOST_INSTRUCTIONS = 20
 MOST_KEPT = 4000
 MOST_INPUTS = 50
 MOST_DEEDS = 400
+MOST_HANDS = 4
 MILLION = 1000000
 ALONE = ("say", "ask", "stop")
 WITH_CELL = ("get", "plus", "minus", "set")
 WITH_PLACE = ("zero", "go")
 
 
+def is_whole(value):
+    """Whether a value is an integer; True and False are none."""
+    return isinstance(value, int) and not isinstance(value, bool)
+
+
 def is_integer(value, low, high):
-    """Whether a value is an integer between two limits; True and False are none."""
-    return isinstance(value, int) and not isinstance(value, bool) and low <= value <= high
+    """Whether a value is an integer between two limits."""
+    return is_whole(value) and low <= value <= high
+
+
+def check_whole(value):
+    if not is_whole(value):
+        raise BadNumber("no integer")
 
 
 def check_number(value, low, high):
@@ -66,9 +78,19 @@ def check_lives(machine, value):
             raise BadLives("a life that is none")
 
 
+def check_cell_of(cells, value):
+    if not is_integer(value, 0, cells - 1):
+        raise BadCell(f"no cell of {cells}")
+
+
 def check_cell(machine, value):
-    if not is_integer(value, 0, len(machine[0]) - 1):
-        raise BadCell("no cell of the machine")
+    check_cell_of(len(machine[0]), value)
+
+
+def check_rows_alone(value):
+    """Rows that stand without fades are those of fewer cells than a machine may have."""
+    if not are_rows(value) or not 1 <= len(value) <= MOST_CELLS_OF_ROWS:
+        raise BadCell("no rows of so few cells")
 
 
 def check_lot(machine, value):
@@ -137,3 +159,8 @@ def check_inputs(value):
         raise BadInputs("no tuple of so few")
     if not all([is_integer(number, -MILLION, MILLION) for number in value]):
         raise BadInputs("an input that is none")
+
+
+def check_string(value):
+    if not isinstance(value, str):
+        raise BadString("no string")

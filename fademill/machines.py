@@ -36,6 +36,11 @@ def first_cells(machine):
     return tuple([rows.index(row) for row in range(max(rows) + 1)])
 
 
+def are_nowhere_more(lives, others):
+    """Whether each of some lives, or of some fades, is at most that of the same cell among others."""
+    return all([life <= other for life, other in zip(lives, others)])
+
+
 def renumbered(rows):
     """Rows numbered anew, as cells name them first."""
     numbers = {}

@@ -252,4 +252,4 @@ def kept_best(machine, program):
     sharing = sharing_of(book)
     if sharing is None:
         return write_shortest(book)
-    return Writer(book, sharing.moves, sharing.heights, sharing.ratio).write()
+    return Writer(book, sharing.moves, sharing.heights, sharing.ratio).whole()

@@ -3,7 +3,7 @@
 from fademill.books import checked_book, reversed_links
 from fademill.checks import MOST_KEPT
 from fademill.errors import NoWay, TooMany
-from fademill.machines import first_cells
+from fademill.machines import are_nowhere_more, first_cells
 from fademill.programs import branches, lives_behind
 
 # The move that is the instruction; the touch of a row is told by the row's number.
@@ -54,10 +54,6 @@ def shortest_moves(book):
                     following.append(source)
         layer = following
     return (moves, lengths)
-
-
-def are_nowhere_more(lives, others):
-    return all([life <= other for life, other in zip(lives, others)])
 
 
 class Writer:
@@ -141,7 +137,7 @@ class Writer:
             else:
                 number = following
 
-    def write(self):
+    def whole(self):
         """The whole kept program."""
         if not self.book.moments:
             return (("stop",),)
@@ -162,7 +158,7 @@ def write_shortest(book):
     """A kept program that carries, with shortest rows of touches."""
     moves, lengths = shortest_moves(book)
     # A step leaves enough for any row: touches are held to be few, steps are not.
-    return Writer(book, moves, lengths, (1, len(book.moments) + 1)).write()
+    return Writer(book, moves, lengths, (1, len(book.moments) + 1)).whole()
 
 
 def kept(machine, program):

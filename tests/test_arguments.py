@@ -6,6 +6,9 @@ import unittest
 from fademill import errors
 from fademill.books import can_be_kept, moments, rank
 from fademill.dooms import doom, shows_doom
+from fademill.fadings import joined, least_fades
+from fademill.hurries import fewest_touches, kept_hurried, shortest_rows
+from fademill.keepers import at_full_speed, keepers_needed
 from fademill.machines import behind_set, behind_touch, behind_wait
 from fademill.needs import needed
 from fademill.orders import best_order, called, orders_kept
@@ -15,6 +18,7 @@ from fademill.programs import may_go_on, reached
 from fademill.rounds import endless, keeps, load, longest
 from fademill.runs import run_fading, run_lasting
 from fademill.shares import kept_best, share
+from fademill.universals import hardest, keeps_all, least_share
 from fademill.walks import carries, fault
 from fademill.writing import kept
 from tests import junk
@@ -29,6 +33,7 @@ INPUTS = ((4, -4), errors.BadInputs)
 NUMBER = (2, errors.BadNumber)
 LOT = ((0, 1), errors.BadCell)
 ORDER = ((1, 0), errors.BadOrder)
+ROWS = ((0, 1), errors.BadCell)
 # Any value will do, and none raises an error.
 ANY = ((0, 1), None)
 
@@ -62,9 +67,19 @@ FUNCTIONS = (
     (called, (MACHINE, PROGRAM, ORDER)),
     (orders_kept, (MACHINE, PROGRAM)),
     (best_order, (MACHINE, PROGRAM)),
+    (keeps_all, (MACHINE,)),
+    (least_share, (MACHINE,)),
+    (hardest, (MACHINE,)),
+    (least_fades, (ROWS, PROGRAM)),
+    (joined, (ROWS, CELL, CELL)),
+    (fewest_touches, (MACHINE, PROGRAM)),
+    (kept_hurried, (MACHINE, PROGRAM)),
+    (shortest_rows, (MACHINE, PROGRAM)),
+    (at_full_speed, (MACHINE, PROGRAM, NUMBER)),
+    (keepers_needed, (MACHINE, PROGRAM)),
 )
 OF_BOOKS = (rank, moments, can_be_kept, kept, doom, shows_doom, share, kept_best, share_paper, shows_share, orders_kept,
-            best_order)
+            best_order, fewest_touches, kept_hurried, shortest_rows)
 NEVER_GOOD = tuple(value for value in junk.VALUES if value not in ((), (1, 2, 3)))
 
 

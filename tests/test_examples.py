@@ -4,6 +4,9 @@ import unittest
 
 from fademill.books import can_be_kept, rank
 from fademill.errors import BadMachine, NoWay
+from fademill.fadings import joined, least_fades
+from fademill.hurries import fewest_touches, shortest_rows
+from fademill.keepers import at_full_speed, keepers_needed
 from fademill.machines import behind_set, behind_touch, behind_wait
 from fademill.needs import needed
 from fademill.orders import best_order
@@ -11,6 +14,7 @@ from fademill.pauses import longest_pause, lost_by
 from fademill.rounds import endless, load, longest
 from fademill.runs import run_fading, run_lasting
 from fademill.shares import share
+from fademill.universals import hardest, keeps_all, least_share
 from fademill.walks import carries, fault
 from fademill.writing import kept
 
@@ -64,3 +68,19 @@ class Examples(unittest.TestCase):
 
     def test_orders(self):
         self.assertEqual(best_order(((1, 4), (0, 1)), (("get", 0), ("say",), ("go", 0))), ((1, 0), (1, 1)))
+
+    def test_universals(self):
+        self.assertEqual([keeps_all(((2, 2), (0, 1))), least_share(((2, 4), (0, 1))), hardest(((2,), (0,)))],
+                         [False, (1, 4), (("say",), ("ask",), ("zero", 0), ("get", 0))])
+
+    def test_fadings(self):
+        self.assertEqual([least_fades((0, 1), (("say",), ("get", 0), ("get", 1))), joined((0, 1, 2), 2, 0)],
+                         [((2, 3), (3, 2)), (0, 1, 0)])
+
+    def test_hurries(self):
+        program = (("say",), ("say",), ("get", 0))
+        self.assertEqual([fewest_touches(((2,), (0,)), program), shortest_rows(((2,), (0,)), program)], [1, 1])
+
+    def test_keepers(self):
+        program = (("say",), ("say",), ("get", 0), ("go", 0))
+        self.assertEqual([at_full_speed(((1,), (0,)), program, 0), keepers_needed(((1,), (0,)), program)], [False, 1])

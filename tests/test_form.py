@@ -10,7 +10,7 @@ PACKAGE = Path(__file__).resolve().parent.parent / "fademill"
 FILES = sorted(PACKAGE.glob("*.py"))
 TREES = {path.stem: ast.parse(path.read_text(encoding="utf-8")) for path in FILES}
 
-LIBRARY = {"heapq": {"heappush", "heappop", "heapify"}, "math": {"gcd", "lcm"}, "itertools": {"product", "permutations"},
+LIBRARY = {"heapq": {"heappush", "heappop", "heapify"}, "math": {"gcd", "lcm"}, "itertools": {"product", "permutations", "combinations"},
            "collections": {"deque", "defaultdict"}}
 BUILTINS = set("""len range enumerate zip min max sum abs sorted reversed int str bool list tuple dict set isinstance ord
     repr any all divmod ValueError KeyError NotImplementedError True False None""".split())
@@ -197,7 +197,9 @@ class Interface(unittest.TestCase):
                   "books": ("rank", "moments", "can_be_kept"), "writing": ("kept",), "dooms": ("doom", "shows_doom"),
                   "shares": ("share", "kept_best"), "papers": ("share_paper", "shows_share"),
                   "rounds": ("endless", "keeps", "longest", "load"), "pauses": ("lost_by", "longest_pause"),
-                  "orders": ("called", "orders_kept", "best_order")}
+                  "orders": ("called", "orders_kept", "best_order"), "universals": ("keeps_all", "least_share", "hardest"),
+                  "fadings": ("least_fades", "joined"), "hurries": ("fewest_touches", "kept_hurried", "shortest_rows"),
+                  "keepers": ("at_full_speed", "keepers_needed")}
         for stem, names in listed.items():
             defined = [node.name for node in TREES[stem].body if isinstance(node, ast.FunctionDef)]
             for name in names:
@@ -214,7 +216,11 @@ class Interface(unittest.TestCase):
                   "endless": "machine cells", "keeps": "machine cells lead ring", "longest": "machine cells",
                   "load": "machine cells", "lost_by": "machine program kept ticks",
                   "longest_pause": "machine program kept", "called": "machine program order",
-                  "orders_kept": "machine program", "best_order": "machine program"}
+                  "orders_kept": "machine program", "best_order": "machine program", "keeps_all": "machine",
+                  "least_share": "machine", "hardest": "machine", "least_fades": "rows program", "joined": "rows one other",
+                  "fewest_touches": "machine program", "kept_hurried": "machine program",
+                  "shortest_rows": "machine program", "at_full_speed": "machine program hands",
+                  "keepers_needed": "machine program"}
         found = {node.name: " ".join(arg.arg for arg in node.args.args)
                  for tree in TREES.values() for node in tree.body if isinstance(node, ast.FunctionDef)}
         self.assertEqual({name: found[name] for name in listed}, listed)
