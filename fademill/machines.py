@@ -30,6 +30,10 @@ def lives_set(machine, lives, cell):
     return tuple(behind)
 
 
+def all_cells(machine):
+    return tuple(range(len(machine[0])))
+
+
 def first_cells(machine):
     """The first cell of each row: a touch of it stands for a touch of any cell of the row."""
     rows = machine[1]

@@ -1,6 +1,7 @@
 """All programs: whether a machine keeps every one, with which share, and the program that asks the most of it."""
 
 from fademill.checks import check_machine
+from fademill.machines import all_cells
 from fademill.rounds import endless
 
 
@@ -12,7 +13,7 @@ def keeps_all(machine):
 def least_share(machine):
     """The least of the shares of all programs, None if some program cannot be kept."""
     check_machine(machine)
-    found = endless(machine, tuple(range(len(machine[0]))))
+    found = endless(machine, all_cells(machine))
     # Without a wait among the ring a program gets no tick of its own.
     return None if found is None or found[2][0] == 0 else found[2]
 
@@ -20,5 +21,5 @@ def least_share(machine):
 def hardest(machine):
     """The program that can be kept only if all can, and then has the least share."""
     check_machine(machine)
-    reads = [("get", cell) for cell in range(len(machine[0]))]
+    reads = [("get", cell) for cell in all_cells(machine)]
     return (("say",), ("ask",), ("zero", 0), *reads)

@@ -4,12 +4,15 @@ import copy
 import unittest
 
 from fademill import errors
+from fademill.benches import Mill
 from fademill.books import can_be_kept, moments, rank
+from fademill.desks import Desk
 from fademill.dooms import doom, shows_doom
 from fademill.fadings import joined, least_fades
 from fademill.hurries import fewest_touches, kept_hurried, shortest_rows
 from fademill.keepers import at_full_speed, keepers_needed
 from fademill.machines import behind_set, behind_touch, behind_wait
+from fademill.milltexts import read_machine, read_program, write_machine, write_program
 from fademill.needs import needed
 from fademill.orders import best_order, called, orders_kept
 from fademill.papers import share_paper, shows_share
@@ -17,11 +20,49 @@ from fademill.pauses import longest_pause, lost_by
 from fademill.programs import may_go_on, reached
 from fademill.rounds import endless, keeps, load, longest
 from fademill.runs import run_fading, run_lasting
+from fademill.sessions import Session, first_unlike, read_session
 from fademill.shares import kept_best, share
 from fademill.universals import hardest, keeps_all, least_share
 from fademill.walks import carries, fault
 from fademill.writing import kept
-from tests import junk
+from tests import junk, test_form
+
+
+class TextError:
+    """In the place of an error: a text's is BadString, or BadLine for a string."""
+
+
+def mill_made(machine):
+    mill = Mill(machine)
+    return mill.tick, mill.fresh, mill.held
+
+
+def mill_read(cell):
+    return Mill(junk.MACHINE).read(cell)
+
+
+def mill_write(cell, value):
+    return Mill(junk.MACHINE).write(cell, value)
+
+
+def mill_touch(cell):
+    return Mill(junk.MACHINE).touch(cell)
+
+
+def desk_take_machine(text):
+    return Desk().take_machine(text)
+
+
+def desk_take_program(text):
+    desk = Desk()
+    desk.take_machine("cell 2 0\ncell 3 1")
+    return desk.take_program(text)
+
+
+def session_made(text):
+    session = Session(text)
+    return session.log, session.text()
+
 
 MACHINE = (junk.MACHINE, errors.BadMachine)
 LIVES = ((1, 2), errors.BadLives)
@@ -34,6 +75,9 @@ NUMBER = (2, errors.BadNumber)
 LOT = ((0, 1), errors.BadCell)
 ORDER = ((1, 0), errors.BadOrder)
 ROWS = ((0, 1), errors.BadCell)
+MACHINE_TEXT = ("cell 2 0\n\n cell 3 1", TextError)
+PROGRAM_TEXT = ("say\n\n get 1", TextError)
+SESSION_TEXT = ("| cell 2 0\n> tick\n< 0", TextError)
 # Any value will do, and none raises an error.
 ANY = ((0, 1), None)
 
@@ -77,13 +121,37 @@ FUNCTIONS = (
     (shortest_rows, (MACHINE, PROGRAM)),
     (at_full_speed, (MACHINE, PROGRAM, NUMBER)),
     (keepers_needed, (MACHINE, PROGRAM)),
+    (write_machine, (MACHINE,)),
+    (read_machine, (MACHINE_TEXT,)),
+    (write_program, (CELLS, KEPT)),
+    (read_program, (CELLS, PROGRAM_TEXT)),
+    (mill_made, (MACHINE,)),
+    (mill_read, (CELL,)),
+    (mill_write, (CELL, NUMBER)),
+    (mill_touch, (CELL,)),
+    (desk_take_machine, (MACHINE_TEXT,)),
+    (desk_take_program, (PROGRAM_TEXT,)),
+    (session_made, (MACHINE_TEXT,)),
+    (read_session, (SESSION_TEXT,)),
+    (first_unlike, (SESSION_TEXT,)),
 )
 OF_BOOKS = (rank, moments, can_be_kept, kept, doom, shows_doom, share, kept_best, share_paper, shows_share, orders_kept,
             best_order, fewest_touches, kept_hurried, shortest_rows)
 NEVER_GOOD = tuple(value for value in junk.VALUES if value not in ((), (1, 2, 3)))
 
 
+def error_of(wanted, value):
+    """The error that a value has in the place of an argument."""
+    if wanted is TextError:
+        return errors.BadLine if isinstance(value, str) else errors.BadString
+    return wanted
+
+
 class Arguments(unittest.TestCase):
+    def test_each_function_of_the_interface_is_here(self):
+        names = {function.__name__ for function, _ in FUNCTIONS}
+        self.assertLessEqual({name for listed in test_form.FUNCTIONS.values() for name in listed}, names)
+
     def test_good_ones_raise_nothing(self):
         for function, arguments in FUNCTIONS:
             good = [value for value, _ in arguments]
@@ -94,6 +162,9 @@ class Arguments(unittest.TestCase):
             for at, (_, wanted) in enumerate(arguments):
                 good = [value for value, _ in arguments[:at]]
                 for value in NEVER_GOOD:
+                    if wanted is errors.BadNumber and function is mill_write and value.__class__ is int:
+                        # Any integer can be written.
+                        continue
                     for rest in ([value] * (len(arguments) - at - 1), [good for good, _ in arguments[at + 1:]]):
                         passed = good + [value] + rest
                         before = copy.deepcopy(passed)
@@ -103,7 +174,7 @@ class Arguments(unittest.TestCase):
                             continue
                         with self.assertRaises(errors.MillError, msg=(function.__name__, passed)) as caught:
                             function(*passed)
-                        self.assertIs(caught.exception.__class__, wanted, (function.__name__, passed))
+                        self.assertIs(caught.exception.__class__, error_of(wanted, value), (function.__name__, passed))
                         self.assertEqual(passed, before)
 
     def test_true_and_false_are_no_integers(self):
@@ -114,7 +185,7 @@ class Arguments(unittest.TestCase):
                 if isinstance(value, int):
                     for truth in (True, False):
                         self.assertRaises(wanted, function, *good[:at], truth, *good[at + 1:])
-            if good[0] == junk.MACHINE:
+            if arguments[0][1] is errors.BadMachine:
                 for machine, part in wrong:
                     with self.assertRaises(errors.BadMachine) as caught:
                         function(machine, *good[1:])

@@ -1,18 +1,22 @@
-"""The examples that stand in the document under the modules that have landed."""
+"""The examples that stand in the document's interface."""
 
 import unittest
 
+from fademill.benches import Mill
 from fademill.books import can_be_kept, rank
-from fademill.errors import BadMachine, NoWay
+from fademill.desks import Desk
+from fademill.errors import BadLine, BadMachine, NoWay
 from fademill.fadings import joined, least_fades
 from fademill.hurries import fewest_touches, shortest_rows
 from fademill.keepers import at_full_speed, keepers_needed
 from fademill.machines import behind_set, behind_touch, behind_wait
+from fademill.milltexts import read_machine, write_program
 from fademill.needs import needed
 from fademill.orders import best_order
 from fademill.pauses import longest_pause, lost_by
 from fademill.rounds import endless, load, longest
 from fademill.runs import run_fading, run_lasting
+from fademill.sessions import Session, first_unlike
 from fademill.shares import share
 from fademill.universals import hardest, keeps_all, least_share
 from fademill.walks import carries, fault
@@ -84,3 +88,28 @@ class Examples(unittest.TestCase):
     def test_keepers(self):
         program = (("say",), ("say",), ("get", 0), ("go", 0))
         self.assertEqual([at_full_speed(((1,), (0,)), program, 0), keepers_needed(((1,), (0,)), program)], [False, 1])
+
+    def test_milltexts(self):
+        self.assertEqual([read_machine("cell 3 0\ncell 2 1"), write_program(1, (("touch", 0), ("zero", 0)))],
+                         [((3, 2), (0, 1)), "touch 0\nzero 0"])
+        with self.assertRaises(BadLine) as caught:
+            read_machine("cell 9 0")
+        self.assertEqual((caught.exception.line, caught.exception.place), (1, 2))
+
+    def test_benches(self):
+        mill = Mill(((1, 3), (0, 1)))
+        mill.write(1, 5)
+        self.assertEqual([mill.read(0), mill.fresh, mill.held, mill.tick], [None, (0, 2), (None, 5), 2])
+
+    def test_desks(self):
+        desk = Desk()
+        desk.take_machine("cell 3 0")
+        desk.take_program("say\nzero 0\nget 0\ngo 0")
+        self.assertEqual([desk.say(line) for line in ["keep", "share", "rank", "spare", "lives", "sing"]],
+                         ["yes", "2 of 3", "-", "2 of 3", "3", "what"])
+
+    def test_sessions(self):
+        session = Session("cell 3 0")
+        answers = [session.say("program say:zero 0:get 0"), session.say("keep")]
+        self.assertEqual([answers, session.text(), first_unlike("| cell 3 0\n> tick\n< 5")],
+                         [["taken", "yes"], "| cell 3 0\n> program say:zero 0:get 0\n< taken\n> keep\n< yes", 0])

@@ -13,7 +13,7 @@ TREES = {path.stem: ast.parse(path.read_text(encoding="utf-8")) for path in FILE
 LIBRARY = {"heapq": {"heappush", "heappop", "heapify"}, "math": {"gcd", "lcm"}, "itertools": {"product", "permutations", "combinations"},
            "collections": {"deque", "defaultdict"}}
 BUILTINS = set("""len range enumerate zip min max sum abs sorted reversed int str bool list tuple dict set isinstance ord
-    repr any all divmod ValueError KeyError NotImplementedError True False None""".split())
+    repr any all divmod property ValueError KeyError NotImplementedError True False None""".split())
 METHODS = set("""append clear copy count endswith extend find get index insert isalnum isalpha isdigit islower isspace
     isupper items join keys ljust lower lstrip partition pop remove replace reverse rfind rjust rpartition rsplit rstrip
     setdefault split splitlines startswith strip update upper values zfill bit_length add discard""".split())
@@ -28,6 +28,25 @@ WORDS_BARRED = re.compile(r"\b(type|typing|typing_extensions|enum|Enum|IntEnum|S
                           r"dataclass|overload|contextmanager|_wall|_WallAttr")
 STATEMENTS_BARRED = (ast.AsyncFunctionDef, ast.AsyncFor, ast.AsyncWith, ast.Await, ast.Global, ast.Import, ast.Div,
                      ast.Yield, ast.YieldFrom, ast.Set, ast.SetComp, ast.Lambda, ast.GeneratorExp)
+
+# What the document's interface lists, by file: functions, and of classes their methods and properties.
+FUNCTIONS = {"machines": ("behind_touch", "behind_set", "behind_wait"), "programs": ("reached", "may_go_on"),
+             "runs": ("run_lasting", "run_fading"), "needs": ("needed",), "walks": ("fault", "carries"),
+             "books": ("rank", "moments", "can_be_kept"), "writing": ("kept",), "dooms": ("doom", "shows_doom"),
+             "shares": ("share", "kept_best"), "papers": ("share_paper", "shows_share"),
+             "rounds": ("endless", "keeps", "longest", "load"), "pauses": ("lost_by", "longest_pause"),
+             "orders": ("called", "orders_kept", "best_order"), "universals": ("keeps_all", "least_share", "hardest"),
+             "fadings": ("least_fades", "joined"), "hurries": ("fewest_touches", "kept_hurried", "shortest_rows"),
+             "keepers": ("at_full_speed", "keepers_needed"),
+             "milltexts": ("write_machine", "read_machine", "write_program", "read_program"),
+             "sessions": ("read_session", "first_unlike")}
+CLASSES = {("benches", "Mill"): ({"__init__": "self machine", "read": "self cell", "write": "self cell value",
+                                  "touch": "self cell", "wait": "self"}, ("tick", "fresh", "held")),
+           ("desks", "Desk"): ({"__init__": "self", "take_machine": "self text", "take_program": "self text",
+                                "say": "self line"}, ()),
+           ("sessions", "Session"): ({"__init__": "self text", "say": "self line", "text": "self"}, ("log",))}
+ERRORS = ("MillError", "BadMachine", "BadProgram", "BadLine", "TooMany", "BadInputs", "BadNumber", "BadCell", "BadLives",
+          "BadOrder", "NoWay", "NotCarried", "BadString")
 
 
 def nodes(tree, *kinds):
@@ -138,6 +157,7 @@ class Form(unittest.TestCase):
             self.assertFalse(inside & taken, name)
 
     def test_attributes_and_methods(self):
+        every_method, every_stored = set(), set()
         own = {node.name for tree in TREES.values() for node in nodes(tree, ast.FunctionDef)}
         for name, tree in TREES.items():
             for node in nodes(tree, ast.Attribute):
@@ -150,6 +170,9 @@ class Form(unittest.TestCase):
                 methods = {item.name for item in node.body if isinstance(item, ast.FunctionDef)}
                 stored = {item.attr for item in nodes(node, ast.Attribute) if isinstance(item.ctx, ast.Store)}
                 self.assertFalse(methods & stored, f"{name}.{node.name}")
+                every_method |= methods
+                every_stored |= stored
+        self.assertFalse(every_method & every_stored)
 
     def test_words_and_strings(self):
         for path in FILES:
@@ -192,15 +215,7 @@ class Form(unittest.TestCase):
 
 class Interface(unittest.TestCase):
     def test_each_function_is_defined_where_the_document_lists_it(self):
-        listed = {"machines": ("behind_touch", "behind_set", "behind_wait"), "programs": ("reached", "may_go_on"),
-                  "runs": ("run_lasting", "run_fading"), "needs": ("needed",), "walks": ("fault", "carries"),
-                  "books": ("rank", "moments", "can_be_kept"), "writing": ("kept",), "dooms": ("doom", "shows_doom"),
-                  "shares": ("share", "kept_best"), "papers": ("share_paper", "shows_share"),
-                  "rounds": ("endless", "keeps", "longest", "load"), "pauses": ("lost_by", "longest_pause"),
-                  "orders": ("called", "orders_kept", "best_order"), "universals": ("keeps_all", "least_share", "hardest"),
-                  "fadings": ("least_fades", "joined"), "hurries": ("fewest_touches", "kept_hurried", "shortest_rows"),
-                  "keepers": ("at_full_speed", "keepers_needed")}
-        for stem, names in listed.items():
+        for stem, names in FUNCTIONS.items():
             defined = [node.name for node in TREES[stem].body if isinstance(node, ast.FunctionDef)]
             for name in names:
                 self.assertIn(name, defined)
@@ -220,7 +235,24 @@ class Interface(unittest.TestCase):
                   "least_share": "machine", "hardest": "machine", "least_fades": "rows program", "joined": "rows one other",
                   "fewest_touches": "machine program", "kept_hurried": "machine program",
                   "shortest_rows": "machine program", "at_full_speed": "machine program hands",
-                  "keepers_needed": "machine program"}
+                  "keepers_needed": "machine program", "write_machine": "machine", "read_machine": "text",
+                  "write_program": "cells program", "read_program": "cells text", "read_session": "text",
+                  "first_unlike": "text"}
         found = {node.name: " ".join(arg.arg for arg in node.args.args)
                  for tree in TREES.values() for node in tree.body if isinstance(node, ast.FunctionDef)}
         self.assertEqual({name: found[name] for name in listed}, listed)
+        self.assertEqual(set(listed), {name for names in FUNCTIONS.values() for name in names})
+
+    def test_each_class_has_its_methods_and_properties_in_its_own_body(self):
+        for (stem, name), (methods, properties) in CLASSES.items():
+            body = [node.body for node in TREES[stem].body if isinstance(node, ast.ClassDef) and node.name == name][0]
+            found = {node.name: node for node in body if isinstance(node, ast.FunctionDef)}
+            for method, arguments in methods.items():
+                self.assertEqual(found[method].decorator_list, [], method)
+                self.assertEqual(" ".join(arg.arg for arg in found[method].args.args), arguments)
+            told = [one for one, node in found.items() if [ast.unparse(part) for part in node.decorator_list] == ["property"]]
+            self.assertEqual(tuple(told), properties)
+
+    def test_each_error_is_defined_in_its_file(self):
+        self.assertEqual(sorted(node.name for node in TREES["errors"].body if isinstance(node, ast.ClassDef)),
+                         sorted(ERRORS))
