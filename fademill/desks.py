@@ -105,8 +105,8 @@ class Desk:
 
     def numbers_of(self, words):
         """The numbers behind the first word, None for each that is none as it must be."""
-        high = len(self.program) if words[0] == "needed" else len(self.machine[0]) - 1
-        limits = [(0, high), (-MILLION, MILLION)]
+        last = len(self.program) if words[0] == "needed" else len(self.machine[0]) - 1
+        limits = [(0, last), (-MILLION, MILLION)]
         return [number_told(word, low, high) for word, (low, high) in zip(words[1:], limits)]
 
     def say_of_machine(self, word, numbers):
